@@ -1,0 +1,68 @@
+import ast
+import importlib
+import inspect
+import pathlib
+import unittest
+
+PACKAGE = pathlib.Path(__file__).resolve().parent.parent / "metricparts"
+
+# The names of each module with the arguments that DOC.md lists.
+FUNCTIONS = {
+    "ratio": {
+        "is_integer": "(value)", "less": "(a, b)", "at_most": "(a, b)", "zero": "()", "one": "()",
+        "is_rational": "(value)", "as_ratio": "(value)", "total": "(numbers)", "least": "(numbers)",
+        "greatest": "(numbers)", "ascending": "(numbers)", "read_ratio": "(text)",
+    },
+    "linear": {
+        "dot": "(v, w)", "combine": "(rows, weights, width)", "reduced": "(rows, width)", "rank": "(rows, width)",
+        "kernel": "(rows, width)", "determinant": "(rows)", "solve": "(rows, width, right)",
+    },
+    "simplex": {"feasible": "(columns, right)"},
+}
+CLASSES = {
+    "errors": {
+        "Fault": {}, "Malformed": {}, "ZeroDivisor": {}, "Refused": {"__init__": "(self, reason)"},
+        "NoText": {"__init__": "(self, at)"},
+    },
+    "ratio": {
+        "Ratio": {
+            "__init__": "(self, n, d=1)", "__add__": "(self, other)", "__sub__": "(self, other)",
+            "__mul__": "(self, other)", "__neg__": "(self)", "__eq__": "(self, other)", "__str__": "(self)",
+            "is_zero": "(self)", "sign": "(self)", "absolute": "(self)", "over": "(self, b)", "half": "(self)",
+        },
+    },
+}
+
+
+def module(name):
+    return importlib.import_module("metricparts." + name)
+
+
+class Interface(unittest.TestCase):
+    def test_functions_stand_in_their_files(self):
+        for name, functions in FUNCTIONS.items():
+            for function, arguments in functions.items():
+                found = getattr(module(name), function)
+                self.assertTrue(inspect.isfunction(found), function)
+                self.assertEqual(found.__module__, "metricparts." + name)
+                self.assertEqual(str(inspect.signature(found)), arguments, function)
+
+    def test_classes_stand_in_their_files_with_their_methods(self):
+        for name, classes in CLASSES.items():
+            for word, methods in classes.items():
+                found = getattr(module(name), word)
+                self.assertTrue(inspect.isclass(found), word)
+                self.assertEqual(found.__module__, "metricparts." + name)
+                for method, arguments in methods.items():
+                    self.assertIn(method, vars(found))
+                    self.assertEqual(str(inspect.signature(vars(found)[method])), arguments, method)
+
+    def test_the_package_itself_defines_nothing(self):
+        self.assertEqual(ast.parse((PACKAGE / "__init__.py").read_text("utf-8")).body, [])
+        files = {path.stem for path in PACKAGE.glob("*.py")}
+        names = {name for name in vars(importlib.import_module("metricparts")) if not name.startswith("__")}
+        self.assertEqual(names - files, set())
+
+
+if __name__ == "__main__":
+    unittest.main()
