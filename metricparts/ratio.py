@@ -7,6 +7,8 @@ from metricparts.errors import Malformed, NoText, ZeroDivisor
 # Python may refuse to turn thousands of digits at once into a number, or back. So they go in blocks.
 DIGITS = 64
 BLOCK = 10 ** 64
+# A text of more characters is read as no number.
+LONGEST = 4000
 
 
 def is_integer(value):
@@ -174,9 +176,14 @@ def number_of(digits):
 
 
 def read_ratio(text):
-    """Return the number with this written form; raise NoText(0) if there is none."""
-    if not isinstance(text, str):
+    """Return the number with this written form, of at most 4000 characters; raise NoText(0) if there is none."""
+    if not isinstance(text, str) or len(text) > LONGEST:
         raise NoText(0)
+    return number_in(text)
+
+
+def number_in(text):
+    """Return the number with this written form, however long it is; raise NoText(0) if there is none."""
     top, slash, bottom = text.partition("/")
     digits = top.removeprefix("-")
     if slash == "":

@@ -70,8 +70,8 @@ class Texts(unittest.TestCase):
                 self.refuse(value)
 
     def test_many_digits(self):
-        for count in (63, 64, 65, 127, 128, 129, 300, 1999, 2000, 2500):
-            for digits in ("9" * count, "1" + "0" * (count - 1), ("1234567890" * 250)[:count], "1" * (count - 1) + "7"):
+        for count in (63, 64, 65, 127, 128, 129, 300, 1999, 2000, 2500, 3998):
+            for digits in ("9" * count, "1" + "0" * (count - 1), ("1234567890" * 400)[:count], "1" * (count - 1) + "7"):
                 for text in (digits, "-" + digits):
                     number = read_ratio(text)
                     self.assertEqual((number.n, number.d), (int(text), 1))
@@ -86,12 +86,23 @@ class Texts(unittest.TestCase):
             self.assertEqual(str(read_ratio(text)), text)
         self.refuse(top + "/" + "5" * 1000)
 
-    def test_somewhat_beyond_the_limit(self):
-        digits = "8" * 4999 + "1"
+    def test_beyond_two_thousand_digits_within_the_length(self):
+        digits = "8" * 3997 + "1"
         number = read_ratio("1/" + digits)
         self.assertEqual(number.n, 1)
-        self.assertEqual(number.d * 9, 8 * 10 ** 5000 - 8 - 63)
+        self.assertEqual(number.d * 9, 8 * 10 ** 3998 - 8 - 63)
         self.assertEqual(str(number), "1/" + digits)
+
+    def test_at_most_four_thousand_characters(self):
+        for start in ("1", "-1", "7/1", "-7/1"):
+            text = start + "0" * (4000 - len(start))
+            number = read_ratio(text)
+            due = Fraction(*[int(part) for part in text.partition("/")[::2] if part])
+            self.assertEqual((number.n, number.d), (due.numerator, due.denominator))
+            for more in (1, 2, 500, 4000):
+                self.refuse(text + "0" * more)
+        self.refuse("1" * 2000 + "/" + "1" + "0" * 1999)
+        self.refuse("0" * 4001)
 
     def test_the_same_text_gives_the_same_number(self):
         self.assertTrue(read_ratio("-7/3") == read_ratio("-7/3"))
