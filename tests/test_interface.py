@@ -18,6 +18,22 @@ FUNCTIONS = {
         "kernel": "(rows, width)", "determinant": "(rows)", "solve": "(rows, width, right)",
     },
     "simplex": {"feasible": "(columns, right)"},
+    "metric": {"is_pseudometric": "(rows)", "read_metric": "(text)"},
+    "build": {
+        "from_graph": "(n, edges)", "path": "(lengths)", "cycle": "(lengths)", "star": "(lengths)",
+        "complete": "(n, length)", "l1_points": "(points)", "scaled": "(m, factor)", "truncated": "(m, bound)",
+        "restricted": "(m, points)", "added": "(a, b)", "greater": "(a, b)", "product": "(a, b)",
+        "extended": "(m, distances)", "splits": "(n)", "cut_rows": "(n, split)", "cut_sum": "(n, weights)",
+    },
+    "points": {
+        "between": "(m, x, z)", "medians": "(m, x, y, z)", "gromov": "(m, r, x, y)", "eccentricity": "(m, x)",
+        "radius": "(m)", "diameter": "(m)", "centre": "(m)", "gap": "(m, x, y, u, v)", "hyperbolicity": "(m)",
+        "widest": "(m)",
+    },
+    "isometry": {
+        "isometries": "(a, b)", "find_isometry": "(a, b)", "group": "(m)", "similarity": "(a, b)",
+        "hausdorff": "(a, b)",
+    },
 }
 CLASSES = {
     "errors": {
@@ -29,6 +45,12 @@ CLASSES = {
             "__init__": "(self, n, d=1)", "__add__": "(self, other)", "__sub__": "(self, other)",
             "__mul__": "(self, other)", "__neg__": "(self)", "__eq__": "(self, other)", "__str__": "(self)",
             "is_zero": "(self)", "sign": "(self)", "absolute": "(self)", "over": "(self, b)", "half": "(self)",
+        },
+    },
+    "metric": {
+        "Metric": {
+            "__init__": "(self, rows)", "__eq__": "(self, other)", "__str__": "(self)", "distance": "(self, x, y)",
+            "pairs": "(self)", "is_point": "(self, value)",
         },
     },
 }
