@@ -93,14 +93,12 @@ def shorter(have, first, second):
 def path(lengths):
     """Return the metric of points on a line with these distances of neighbours."""
     check_lengths(lengths, 0)
-    check_size(len(lengths) + 1)
     return from_graph(len(lengths) + 1, [(at, at + 1, length) for at, length in enumerate(lengths)])
 
 
 def cycle(lengths):
     """Return the metric of points on a circle with these lengths of edges, by the shorter way round."""
     check_lengths(lengths, 3)
-    check_size(len(lengths))
     edges = [(at, (at + 1) % len(lengths), length) for at, length in enumerate(lengths)]
     return from_graph(len(lengths), edges)
 
@@ -232,7 +230,6 @@ def cut_rows(n, split):
 
 def cut_sum(n, weights):
     """Return the metric that is the sum of the cut rows of all splits, each times its weight."""
-    check_points(n)
     every = splits(n)
     if not is_numbers(weights) or len(weights) != len(every):
         raise Malformed("these are no weights of all splits")

@@ -34,6 +34,18 @@ FUNCTIONS = {
         "isometries": "(a, b)", "find_isometry": "(a, b)", "group": "(m)", "similarity": "(a, b)",
         "hausdorff": "(a, b)",
     },
+    "ultra": {"is_ultrametric": "(m)", "failing_triple": "(m)", "hierarchy": "(m)", "single_linkage": "(m)"},
+    "tree": {"failing_quadruple": "(m)", "is_tree_metric": "(m)", "tree_of": "(m)"},
+    "splits": {
+        "is_split": "(n, value)", "isolation_index": "(m, split)", "decomposition": "(m)",
+        "are_compatible": "(n, one, two)", "are_weakly_compatible": "(n, one, two, three)",
+        "is_totally_decomposable": "(m)",
+    },
+    "cuts": {
+        "cut_weights": "(m)", "cut_functional": "(m)", "l1_embedding": "(m)", "cube_embedding": "(m)",
+        "possible_splits": "(m)", "is_rigid": "(m)", "hypermetric_sum": "(m, b)",
+        "hypermetric_failure": "(m, bound)",
+    },
 }
 CLASSES = {
     "errors": {
@@ -51,6 +63,12 @@ CLASSES = {
         "Metric": {
             "__init__": "(self, rows)", "__eq__": "(self, other)", "__str__": "(self)", "distance": "(self, x, y)",
             "pairs": "(self)", "is_point": "(self, value)",
+        },
+    },
+    "tree": {
+        "Tree": {
+            "__init__": "(self, n, edges)", "__eq__": "(self, other)", "distance": "(self, x, y)",
+            "metric": "(self)", "numbered": "(self)",
         },
     },
 }
