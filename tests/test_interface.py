@@ -46,6 +46,23 @@ FUNCTIONS = {
         "possible_splits": "(m)", "is_rigid": "(m)", "hypermetric_sum": "(m, b)",
         "hypermetric_failure": "(m, bound)",
     },
+    "euclid": {
+        "gram": "(m)", "type_gram": "(m)", "squares_of": "(rows)", "negative_vector": "(rows)", "is_euclidean": "(m)",
+        "dimension": "(m)", "coordinates": "(m)", "sphere": "(m)", "is_negative_type": "(m)",
+        "positive_weights": "(m)", "cayley_menger": "(m, points)",
+    },
+    "span": {
+        "is_above": "(m, f)", "is_tight": "(m, f)", "pushed_down": "(m, f)", "span_distance": "(m, f, g)",
+        "span_vertices": "(m)", "span_edges": "(m)",
+    },
+    "papers": {
+        "tree_paper": "(metric)", "ultra_paper": "(metric)", "cut_paper": "(metric)", "euclid_paper": "(metric)",
+        "isometry_paper": "(a, b)", "split_paper": "(metric)",
+    },
+    "checker": {
+        "takes_tree": "(metric, paper)", "takes_ultra": "(metric, paper)", "takes_cuts": "(metric, paper)",
+        "takes_euclid": "(metric, paper)", "takes_isometry": "(a, b, paper)", "takes_splits": "(metric, paper)",
+    },
 }
 CLASSES = {
     "errors": {
@@ -72,6 +89,11 @@ CLASSES = {
         },
     },
 }
+# The modules by the chapters of DOC.md. The errors stand before all of them.
+CHAPTERS = {
+    "errors": 0, "ratio": 1, "linear": 1, "simplex": 1, "metric": 2, "build": 2, "points": 3, "isometry": 3, "ultra": 4,
+    "tree": 4, "splits": 5, "cuts": 6, "euclid": 7, "span": 8, "papers": 9, "checker": 9,
+}
 
 
 def module(name):
@@ -96,6 +118,13 @@ class Interface(unittest.TestCase):
                 for method, arguments in methods.items():
                     self.assertIn(method, vars(found))
                     self.assertEqual(str(inspect.signature(vars(found)[method])), arguments, method)
+
+    def test_each_chapter_uses_those_before_it(self):
+        self.assertEqual({path.stem for path in PACKAGE.glob("*.py")} - {"__init__"}, set(CHAPTERS))
+        for name, chapter in CHAPTERS.items():
+            for node in ast.walk(ast.parse((PACKAGE / (name + ".py")).read_text("utf-8"))):
+                if isinstance(node, ast.ImportFrom) and node.module.startswith("metricparts."):
+                    self.assertLessEqual(CHAPTERS[node.module.removeprefix("metricparts.")], chapter, name)
 
     def test_the_package_itself_defines_nothing(self):
         self.assertEqual(ast.parse((PACKAGE / "__init__.py").read_text("utf-8")).body, [])
