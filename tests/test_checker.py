@@ -126,7 +126,8 @@ class Trees(Cases):
             ("tree", 2, (edge(0, 1, T),)), ("tree", 3, (edge(0, 2), edge(1, 2))),
             # Edges that are none, lists, and integers as lengths.
             ("tree", 2, ((0, 1),)), ("tree", 2, ((0, 1, R, R),)), ("tree", 2, ([0, 1, R],)), ("tree", 2, [edge(0, 1)]),
-            ("tree", 2, ((0, 1, 1),)), ("tree", 2, ((False, True, R),)), ("tree", 2, ((0, True, R),)), ("tree", 2, (None,)),
+            ("tree", 2, ((0, 1, 1),)), ("tree", 2, ((False, True, R),)), ("tree", 2, ((0, True, R),)),
+            ("tree", 2, (None,)),
             ("tree", 2, ((Ratio(0), 1, R),)), ("tree", 2, None), ("tree", Ratio(2), (edge(0, 1),)),
             ("tree", "2", (edge(0, 1),)), ("tree", 2, (edge(0, 1, "1"),)), ("tree", 2, (edge(0, 1, True),)),
             # Other words and lengths.
@@ -142,7 +143,8 @@ class Trees(Cases):
         edges = (edge(0, 4), edge(1, 4, T), edge(2, 5), edge(3, 5, HALF), edge(4, 5, T))
         m = read_metric("4: 0 3 4 7/2; 3 0 5 9/2; 4 5 0 3/2; 7/2 9/2 3/2 0")
         good = [("tree", 6, some) for some in permutations(edges)]
-        bad = [("tree", 6, edges[:at] + (edge(*edges[at][:2], edges[at][2] + HALF),) + edges[at + 1:]) for at in range(5)]
+        longer = [edge(x, y, length + HALF) for x, y, length in edges]
+        bad = [("tree", 6, edges[:at] + (longer[at],) + edges[at + 1:]) for at in range(5)]
         bad += [("tree", 6, (edge(0, 5), edge(1, 4, T), edge(2, 5), edge(3, 5, HALF), edge(4, 5, T)))]
         self.hold(takes_tree, m, good, bad)
         line = path([1] * 7)
@@ -156,7 +158,8 @@ class Trees(Cases):
         good = [("points", *some) for some in permutations(range(4))]
         bad = [("points", 0, 1, 2, 2), ("points", 0, 0, 0, 0), ("points", 0, 1, 0, 1), ("points", 0, 1, 2, 4),
                ("points", -1, 1, 2, 3), ("points", 0, 1, 2), ("points", 0, 1, 2, 3, 0), ("points", False, 1, 2, 3),
-               ("points", 0, True, 2, 3), ("points", Ratio(0), 1, 2, 3), ("points", "0", 1, 2, 3), ("points", (0, 1, 2, 3)),
+               ("points", 0, True, 2, 3), ("points", Ratio(0), 1, 2, 3), ("points", "0", 1, 2, 3),
+               ("points", (0, 1, 2, 3)),
                ("point", 0, 1, 2, 3), ["points", 0, 1, 2, 3], ("points", None, 1, 2, 3), ("points", 0, 1, [2], 3)]
         self.hold(takes_tree, SQUARE, good, bad)
         # Of the three sums the two greatest are equal, or all of them: no greatest one is above both others.
@@ -204,7 +207,8 @@ class Ultrametrics(Cases):
         low, middle, high = (R, (0, 0, 2, 3)), (T, (0, 0, 2, 2)), (Ratio(3), (1, 1, 1, 1))
         good = [("levels", (low, middle, high)), ("levels", ((R, (3, 3, 1, 0)), (T, (2, 2, 0, 0)), high)),
                 # Levels at which nothing is joined anew.
-                ("levels", ((HALF, (0, 1, 2, 3)), low, middle, high)), ("levels", (low, middle, high, (Ratio(9), (0, 0, 0, 0)))),
+                ("levels", ((HALF, (0, 1, 2, 3)), low, middle, high)),
+                ("levels", (low, middle, high, (Ratio(9), (0, 0, 0, 0)))),
                 ("levels", (low, (Ratio(3, 2), (2, 2, 0, 1)), middle, high))]
         bad = [
             # Heights that descend, are equal, or are not above 0.
@@ -216,19 +220,24 @@ class Ultrametrics(Cases):
             ("levels", ((R, (0, 0, 2, 2)), high)), ("levels", (low, middle)), ("levels", (low, high)), ("levels", ()),
             ("levels", (low, middle, (Ratio(3), (1, 1, 1, 0)))),
             # Points that are parted again, at the next level and later.
-            ("levels", (low, (Ratio(3, 2), (0, 1, 2, 3)), middle, high)), ("levels", (low, middle, high, (Ratio(4), (0, 0, 0, 1)))),
+            ("levels", (low, (Ratio(3, 2), (0, 1, 2, 3)), middle, high)),
+            ("levels", (low, middle, high, (Ratio(4), (0, 0, 0, 1)))),
             ("levels", (low, (T, (0, 1, 2, 2)), high)), ("levels", (low, middle, high, (Ratio(4), (0, 0, 0, 0)),
                                                                    (Ratio(5), (0, 1, 2, 3)))),
             # Classes that are no points, and not as many as the points.
-            ("levels", (low, middle, (Ratio(3), (4, 4, 4, 4)))), ("levels", (low, middle, (Ratio(3), (-1, -1, -1, -1)))),
+            ("levels", (low, middle, (Ratio(3), (4, 4, 4, 4)))),
+            ("levels", (low, middle, (Ratio(3), (-1, -1, -1, -1)))),
             ("levels", (low, middle, (Ratio(3), (1, 1, 1)))), ("levels", (low, middle, (Ratio(3), (1, 1, 1, 1, 1)))),
             ("levels", (low, middle, (Ratio(3), (True,) * 4))), ("levels", (low, middle, (Ratio(3), (R,) * 4))),
             ("levels", (low, middle, (Ratio(3), [1, 1, 1, 1]))), ("levels", (low, middle, (Ratio(3), "1111"))),
             ("levels", (low, middle, (Ratio(3), (None,) * 4))), ("levels", (low, middle, (Ratio(3), ((),) * 4))),
             # Levels that are no pairs, integers as heights, lists.
-            ("levels", (low, middle, (3, (1, 1, 1, 1)))), ("levels", (low, middle, high[:1])), ("levels", (low, middle, None)),
-            ("levels", (low, middle, high + (1,))), ("levels", (low, middle, list(high))), ("levels", [low, middle, high]),
-            ("levels", (low, middle, high), ()), ("level", (low, middle, high)), ["levels", (low, middle, high)], ("levels",),
+            ("levels", (low, middle, (3, (1, 1, 1, 1)))), ("levels", (low, middle, high[:1])),
+            ("levels", (low, middle, None)),
+            ("levels", (low, middle, high + (1,))), ("levels", (low, middle, list(high))),
+            ("levels", [low, middle, high]),
+            ("levels", (low, middle, high), ()), ("level", (low, middle, high)), ["levels", (low, middle, high)],
+            ("levels",),
             ("levels", low, middle, high), ("levels", None), ("levels", ("1", middle, high)),
         ]
         self.hold(takes_ultra, LEVELS, good, bad)
@@ -240,11 +249,14 @@ class Ultrametrics(Cases):
     def test_points(self):
         self.hold(takes_ultra, LINE, [("points", 0, 1, 2), ("points", 2, 1, 0)], [
             ("points", 0, 2, 1), ("points", 1, 0, 2), ("points", 0, 0, 2), ("points", 0, 2, 2), ("points", 0, 1, 3),
-            ("points", -1, 1, 0), ("points", False, 1, 2), ("points", 0, True, 2), ("points", 0, R, 2), ("points", 0, 1, "2"),
-            ("points", 0, 1), ("points", 0, 1, 2, 2), ["points", 0, 1, 2], ("points", (0, 1, 2)), ("points", None, 1, 2),
+            ("points", -1, 1, 0), ("points", False, 1, 2), ("points", 0, True, 2), ("points", 0, R, 2),
+            ("points", 0, 1, "2"),
+            ("points", 0, 1), ("points", 0, 1, 2, 2), ["points", 0, 1, 2], ("points", (0, 1, 2)),
+            ("points", None, 1, 2),
             ("point", 0, 1, 2), ("points", [0], 1, 2)])
         # Above one of the two others only, and equal to the greater one.
-        self.hold(takes_ultra, read_metric("3: 0 1 2; 1 0 2; 2 2 0"), [], [("points", *some) for some in permutations(range(3))])
+        self.hold(takes_ultra, read_metric("3: 0 1 2; 1 0 2; 2 2 0"), [],
+                  [("points", *some) for some in permutations(range(3))])
         self.hold(takes_ultra, complete(3, 1), [], [("points", *some) for some in permutations(range(3))])
 
     def test_against_the_meaning(self):
@@ -284,13 +296,15 @@ def means_cuts(m, paper):
 class Cuts(Cases):
     def test_weights(self):
         first, second = ((1, 2), R), ((2,), T)
-        good = [("cuts", (first, second)), ("cuts", (second, first)), ("cuts", (second, ((1, 2), HALF), ((1, 2), HALF))),
+        good = [("cuts", (first, second)), ("cuts", (second, first)),
+                ("cuts", (second, ((1, 2), HALF), ((1, 2), HALF))),
                 ("cuts", (((2,), R), first, ((2,), R)))]
         bad = [
             # Weights that are not above 0; no splits.
             ("cuts", (first, second, ((1,), Ratio(0)))), ("cuts", (first, ((2,), Ratio(3)), ((2,), -R))),
             ("cuts", (first, second, ((), R))), ("cuts", (((0,), R), second)), ("cuts", (((2, 1), R), second)),
-            ("cuts", (((1, 1, 2), R), second)), ("cuts", (first, ((0, 1), T))), ("cuts", (first, second, ((0, 1, 2), R))),
+            ("cuts", (((1, 1, 2), R), second)), ("cuts", (first, ((0, 1), T))),
+            ("cuts", (first, second, ((0, 1, 2), R))),
             ("cuts", (first, second, ((3,), R))), ("cuts", (first, ((2, 3), T))), ("cuts", (first, ((-1,), T))),
             ("cuts", (((True, 2), R), second)), ("cuts", (([1, 2], R), second)), ("cuts", (((R, T), R), second)),
             ("cuts", (((1, "2"), R), second)), ("cuts", ((None, R), second)), ("cuts", ((1, R), second)),
@@ -299,12 +313,15 @@ class Cuts(Cases):
             ("cuts", (((1,), R), second)),
             # Integers as weights, no pairs, lists, other words.
             ("cuts", (((1, 2), 1), second)), ("cuts", (((1, 2), True), second)), ("cuts", (((1, 2), "1"), second)),
-            ("cuts", (first + (R,), second)), ("cuts", (first[:1], second)), ("cuts", (list(first), second)), ("cuts", (None, second)),
-            ("cuts", [first, second]), ("cuts", (first, second), ()), ("cut", (first, second)), ["cuts", (first, second)],
+            ("cuts", (first + (R,), second)), ("cuts", (first[:1], second)), ("cuts", (list(first), second)),
+            ("cuts", (None, second)),
+            ("cuts", [first, second]), ("cuts", (first, second), ()), ("cut", (first, second)),
+            ["cuts", (first, second)],
             ("cuts", first, second), ("cuts",), ("cuts", None), ("functional", (first, second)),
         ]
         self.hold(takes_cuts, LINE, good, bad)
-        self.hold(takes_cuts, ONE, [("cuts", ())], [("cuts", (((0,), R),)), ("cuts", (((1,), R),)), ("cuts", (((), R),)),
+        self.hold(takes_cuts, ONE, [("cuts", ())], [("cuts", (((0,), R),)), ("cuts", (((1,), R),)),
+                                                    ("cuts", (((), R),)),
                                                     ("cuts", []), ("functional", ())])
 
     def test_functionals(self):
@@ -315,14 +332,16 @@ class Cuts(Cases):
             ("functional", (R,) * 10), ("functional", row("2 -1 -1 -1 -1 -1 -1 1 1 1")),
             ("functional", row("1 0 -1 -1 -1 -1 -1 1 1 1")), ("functional", row("1 -1 -1 -1 -1 -1 -1 1 1 10/9")),
             # Not above 0 with the distances.
-            ("functional", (Ratio(0),) * 10), ("functional", (-R,) * 10), ("functional", row("0 -1 -1 -1 -1 -1 -1 1 1 1")),
+            ("functional", (Ratio(0),) * 10), ("functional", (-R,) * 10),
+            ("functional", row("0 -1 -1 -1 -1 -1 -1 1 1 1")),
             ("functional", row("-1 -1 -1 -1 -1 -1 -1 1 1 1")), ("functional", row("1 -1 -1 -2 -1 -1 -2 1 1 1")),
             # Both.
             ("functional", tuple(-item for item in values)), ("functional", values[9:] + values[:9]),
             # Not as many numbers as pairs; integers; lists; other words.
             ("functional", values[:9]), ("functional", values + (Ratio(0),)), ("functional", values[:9] + (1,)),
             ("functional", (True,) + values[1:]), ("functional", ("1",) + values[1:]), ("functional", list(values)),
-            ("functional", (None,) + values[1:]), ("functional", ((),) + values[1:]), ("functional", ()), ("functional",),
+            ("functional", (None,) + values[1:]), ("functional", ((),) + values[1:]), ("functional", ()),
+            ("functional",),
             ("functional", values, ()), ("functionals", values), ["functional", values], ("cuts", values),
             ("functional", *values), ("functional", None),
         ]
@@ -349,7 +368,8 @@ class Cuts(Cases):
         values = row("1 -1 -1 -1 -1 -1 -1 1 1 1")
         kinds = []
         for _ in range(150):
-            paper = ("functional", tuple(item + random.choice((Ratio(0), Ratio(0), Ratio(1, 9), Ratio(-1, 9))) for item in values))
+            paper = ("functional", tuple(item + random.choice((Ratio(0), Ratio(0), Ratio(1, 9),
+                                                               Ratio(-1, 9))) for item in values))
             kinds.append(means_cuts(ACROSS, paper))
             self.assertIs(takes_cuts(ACROSS, paper), kinds[-1])
         self.assertGreater(min(kinds.count(True), kinds.count(False)), 10)
@@ -377,7 +397,8 @@ class Spaces(Cases):
     def test_squares(self):
         m = read_metric("3: 0 3 5; 3 0 4; 5 4 0")
         basis, squares = rows("3 0", "3 4"), row("1 1")
-        good = [("euclid", basis, squares), ("euclid", rows("1 0", "1 1"), row("9 16")), ("euclid", rows("0 3", "4 3"), squares),
+        good = [("euclid", basis, squares), ("euclid", rows("1 0", "1 1"), row("9 16")),
+                ("euclid", rows("0 3", "4 3"), squares),
                 ("euclid", rows("-3 0", "-3 4"), squares), ("euclid", rows("3 0 0", "3 4 0"), row("1 1 5")),
                 ("euclid", rows("3 0 0", "3 4 4"), row("1 1/2 1/2"))]
         bad = [
@@ -385,36 +406,47 @@ class Spaces(Cases):
             ("euclid", rows("3 0 0", "3 4 0"), row("1 1 0")), ("euclid", rows("3 0 0", "3 4 0"), row("1 1 -1")),
             ("euclid", rows("3 0 0", "3 5 3"), row("1 1 -1")),
             # Another item, on the diagonal and beside it.
-            ("euclid", rows("3 0", "3 5"), squares), ("euclid", rows("4 0", "3 4"), squares), ("euclid", rows("3 0", "-3 4"), squares),
+            ("euclid", rows("3 0", "3 5"), squares), ("euclid", rows("4 0", "3 4"), squares),
+            ("euclid", rows("3 0", "-3 4"), squares),
             ("euclid", rows("3 0", "5 0"), squares), ("euclid", basis, row("1 2")), ("euclid", basis[::-1], squares),
             ("euclid", rows("3 0", "0 5"), squares),
             # Not as many rows, or items in a row.
-            ("euclid", basis[:1], squares), ("euclid", rows("0 0") + basis, squares), ("euclid", basis + rows("0 0"), squares),
-            ("euclid", rows("3", "3 4"), squares), ("euclid", rows("3 0", "3 4 0"), squares), ("euclid", basis, row("1 1 1")),
-            ("euclid", basis, row("1")), ("euclid", rows("3 0 0", "3 4 0"), squares), ("euclid", (), ()), ("euclid", ((), ()), ()),
+            ("euclid", basis[:1], squares), ("euclid", rows("0 0") + basis, squares),
+            ("euclid", basis + rows("0 0"), squares),
+            ("euclid", rows("3", "3 4"), squares), ("euclid", rows("3 0", "3 4 0"), squares),
+            ("euclid", basis, row("1 1 1")),
+            ("euclid", basis, row("1")), ("euclid", rows("3 0 0", "3 4 0"), squares), ("euclid", (), ()),
+            ("euclid", ((), ()), ()),
             # Integers, lists, other words.
             ("euclid", ((3, Ratio(0)), basis[1]), squares), ("euclid", basis, (1, R)), ("euclid", basis, (True, R)),
-            ("euclid", ((Ratio(3), False), basis[1]), squares), ("euclid", list(basis), squares), ("euclid", basis, list(squares)),
-            ("euclid", (list(basis[0]), basis[1]), squares), ("euclid", basis), ("euclid", basis, squares, ()), ("euclid", None, None),
+            ("euclid", ((Ratio(3), False), basis[1]), squares), ("euclid", list(basis), squares),
+            ("euclid", basis, list(squares)),
+            ("euclid", (list(basis[0]), basis[1]), squares), ("euclid", basis), ("euclid", basis, squares, ()),
+            ("euclid", None, None),
             ("Euclid", basis, squares), ["euclid", basis, squares], ("euclid", basis, None), ("euclid", None, squares),
             ("euclid", (basis[0], None), squares), ("euclid", basis, ("1", R)), ("vector", basis, squares), ("euclid",),
         ]
         self.hold(takes_euclid, m, good, bad)
         self.hold(takes_euclid, ONE, [("euclid", (), ()), ("euclid", (), (R, T))],
-                  [("euclid", (), (Ratio(0),)), ("euclid", ((),), ()), ("euclid", [], ()), ("euclid", (), []), ("vector", ())])
-        self.hold(takes_euclid, SQUARE, [], [("euclid", rows("1 0", "2 0", "-1 1"), squares), ("euclid", rows("1", "2", "1"), row("1"))])
+                  [("euclid", (), (Ratio(0),)), ("euclid", ((),), ()), ("euclid", [], ()), ("euclid", (), []),
+                   ("vector", ())])
+        self.hold(takes_euclid, SQUARE, [], [("euclid", rows("1 0", "2 0", "-1 1"), squares),
+                                             ("euclid", rows("1", "2", "1"), row("1"))])
 
     def test_vectors(self):
         # The matrix is 1 2 -1, 2 4 2, -1 2 1.
-        good = [("vector", row("1 -1/2 1")), ("vector", row("-2 1 -2")), ("vector", row("3 -1 3")), ("vector", row("2 -1 1"))]
+        good = [("vector", row("1 -1/2 1")), ("vector", row("-2 1 -2")), ("vector", row("3 -1 3")),
+                ("vector", row("2 -1 1"))]
         bad = [
             # 0 and above 0.
             ("vector", row("0 0 0")), ("vector", row("2 -1 0")), ("vector", row("1 1 1")), ("vector", row("1 0 0")),
             ("vector", row("0 0 1")), ("vector", row("1 0 1")), ("vector", row("1 -2 1")),
             ("vector", row("1 -1/2")), ("vector", row("0 1 -1/2 1")), ("vector", row("1 -1/2 1 0")), ("vector", ()),
             ("vector", (1, Ratio(-1, 2), 1)), ("vector", (R, Ratio(-1, 2), True)), ("vector", [R, Ratio(-1, 2), R]),
-            ("vector", ("1", Ratio(-1, 2), R)), ("vector", (None,) * 3), ("vector", ((),) * 3), ("vector", None), ("vector",),
-            ("vector", row("1 -1/2 1"), ()), ("vectors", row("1 -1/2 1")), ["vector", row("1 -1/2 1")], ("euclid", row("1 -1/2 1")),
+            ("vector", ("1", Ratio(-1, 2), R)), ("vector", (None,) * 3), ("vector", ((),) * 3), ("vector", None),
+            ("vector",),
+            ("vector", row("1 -1/2 1"), ()), ("vectors", row("1 -1/2 1")), ["vector", row("1 -1/2 1")],
+            ("euclid", row("1 -1/2 1")),
             ("vector", *row("1 -1/2 1")),
         ]
         self.hold(takes_euclid, SQUARE, good, bad)
@@ -444,12 +476,14 @@ class Isometries(unittest.TestCase):
             ("isometric", (0, 1, 2)), ("isometric", (2, 0, 1)), ("isometric", (1, 2, 0)), ("isometric", (2, 1, 2)),
             ("isometric", (1, 1, 1)), ("isometric", (2, 1, 3)), ("isometric", (2, 1, -1)), ("isometric", (2, 1)),
             ("isometric", (2, 1, 0, 0)), ("isometric", ()), ("isometric", [2, 1, 0]), ("isometric", (2, True, 0)),
-            ("isometric", (2, 1, False)), ("isometric", (T, 1, 0)), ("isometric", ("2", 1, 0)), ("isometric", (None,) * 3),
+            ("isometric", (2, 1, False)), ("isometric", (T, 1, 0)), ("isometric", ("2", 1, 0)),
+            ("isometric", (None,) * 3),
             ("isometric", ((2, 1, 0),)), ("isometric", 2, 1, 0), ("isometric", (2, 1, 0), ()), ("isometric",),
             ["isometric", (2, 1, 0)], ("isometry", (2, 1, 0)), ("isometric", None), ("unlike",), ("sizes",), (), None,
             ("unlike", (2, 1, 0)), (("isometric", (2, 1, 0)),)])
         # Both ways round, and the pairs of the first and the last point alone.
-        self.hold(SQUARE, SQUARE, [("isometric", (0, 1, 2, 3)), ("isometric", (3, 2, 1, 0)), ("isometric", (1, 2, 3, 0))],
+        self.hold(SQUARE, SQUARE, [("isometric", (0, 1, 2, 3)), ("isometric", (3, 2, 1, 0)),
+                                   ("isometric", (1, 2, 3, 0))],
                   [("isometric", (0, 2, 1, 3)), ("isometric", (1, 0, 2, 3)), ("isometric", (0, 1, 2, 2))])
         nearly = Metric([[0, 1, 1], [1, 0, Ratio(9, 8)], [1, Ratio(9, 8), 0]])
         self.hold(complete(3, 1), nearly, [("unlike",)], [("isometric", some) for some in permutations(range(3))])
@@ -457,17 +491,20 @@ class Isometries(unittest.TestCase):
 
     def test_maps_that_are_not_one_to_one(self):
         # The images are points of b with the distances of a but for points that fall together.
-        self.hold(EDGE, EDGE, [("isometric", (0, 1)), ("isometric", (1, 0))], [("isometric", (0, 0)), ("isometric", (1, 1))])
+        self.hold(EDGE, EDGE, [("isometric", (0, 1)), ("isometric", (1, 0))],
+                  [("isometric", (0, 0)), ("isometric", (1, 1))])
         self.hold(EDGE, LINE, [("sizes",)], [("isometric", (0, 1)), ("isometric", (0, 1, 2)), ("unlike",)])
         self.hold(LINE, EDGE, [("sizes",)], [("isometric", (0, 1)), ("isometric", (0, 1, 0)), ("unlike",)])
 
     def test_words(self):
-        bad = [["unlike"], ["sizes"], ("unlike", ()), ("sizes", ()), "unlike", "sizes", ("Unlike",), ("size",), (("unlike",),),
+        bad = [["unlike"], ["sizes"], ("unlike", ()), ("sizes", ()), "unlike", "sizes", ("Unlike",), ("size",),
+               (("unlike",),),
                ("unlike", "unlike"), (None,), (True,), (1,), ((),), ("",)]
         self.hold(LINE, path([1, 1]), [("unlike",)], bad + [("sizes",), ("isometric", (0, 1, 2))])
         self.hold(LINE, LINE, [("isometric", (0, 1, 2))], bad + [("unlike",), ("sizes",)])
         self.hold(LINE, EDGE, [("sizes",)], bad + [("unlike",), ("isometric", (0, 1))])
-        self.hold(ONE, ONE, [("isometric", (0,))], bad + [("unlike",), ("sizes",), ("isometric", (False,)), ("isometric", (1,))])
+        self.hold(ONE, ONE, [("isometric", (0,))], bad + [("unlike",), ("sizes",), ("isometric", (False,)),
+                                                          ("isometric", (1,))])
 
     def test_against_the_meaning(self):
         words = []
@@ -516,22 +553,30 @@ class Splits(Cases):
         rest = rows(*["0 0 0 0"] * 4)
         bad = [
             # A part left out, one more, another order, another index, another split.
-            ((first,), rest), ((second,), rest), ((), rest), ((((1,), R), first, second), rest), ((first, first, second), rest),
-            ((first, second, second), rest), ((second, first), rest), ((((1, 2), HALF), second), rest), ((first, ((2, 3), T)), rest),
-            ((first, ((1, 3), R)), rest), ((first, second, ((3,), Ratio(0))), rest), ((((1,), Ratio(0)), first, second), rest),
+            ((first,), rest), ((second,), rest), ((), rest), ((((1,), R), first, second), rest),
+            ((first, first, second), rest),
+            ((first, second, second), rest), ((second, first), rest), ((((1, 2), HALF), second), rest),
+            ((first, ((2, 3), T)), rest),
+            ((first, ((1, 3), R)), rest), ((first, second, ((3,), Ratio(0))), rest),
+            ((((1,), Ratio(0)), first, second), rest),
             ((((1, 2), -R), second), rest), ((((2, 1), R), second), rest), ((((0, 3), R), second), rest),
             # A part left out or less of it, with a rest that makes up for it.
             ((first,), rows("0 0 1 1", "0 0 1 1", "1 1 0 0", "1 1 0 0")), ((), SQUARE.rows),
             ((first, ((2, 3), HALF)), rows("0 0 1/2 1/2", "0 0 1/2 1/2", "1/2 1/2 0 0", "1/2 1/2 0 0")),
             # Integers, lists, True.
             ((((1, 2), 1), second), rest), ((((1, 2), True), second), rest), ((([1, 2], R), second), rest),
-            ((((True, 2), R), second), rest), (((R, T), second), rest), ((list(first), second), rest), ([first, second], rest),
-            ((first + (R,), second), rest), ((first[:1], second), rest), ((None, second), rest), ((((1, "2"), R), second), rest),
-            ((((1, T), R), second), rest), (((None, R), second), rest), (None, rest), ("", rest), (((1, R), second), rest),
+            ((((True, 2), R), second), rest), (((R, T), second), rest), ((list(first), second), rest),
+            ([first, second], rest),
+            ((first + (R,), second), rest), ((first[:1], second), rest), ((None, second), rest),
+            ((((1, "2"), R), second), rest),
+            ((((1, T), R), second), rest), (((None, R), second), rest), (None, rest), ("", rest),
+            (((1, R), second), rest),
             ((((1, 2), "1"), second), rest), ((((1, 2), None), second), rest),
             # Another rest, one of another size, integers, lists, True.
-            ((first, second), rest[:3]), ((first, second), rest + rest[:1]), ((first, second), ()), ((first, second), None),
-            ((first, second), tuple(one[:3] for one in rest)), ((first, second), tuple(one + (Ratio(0),) for one in rest)),
+            ((first, second), rest[:3]), ((first, second), rest + rest[:1]), ((first, second), ()),
+            ((first, second), None),
+            ((first, second), tuple(one[:3] for one in rest)),
+            ((first, second), tuple(one + (Ratio(0),) for one in rest)),
             ((first, second), rest[:3] + ((Ratio(0), Ratio(0), Ratio(0), 0),)), ((first, second), list(rest)),
             ((first, second), rest[:3] + (list(rest[3]),)), ((first, second), rest[:3] + (None,)),
             ((first, second), rest[:3] + ((Ratio(0), Ratio(0), Ratio(0), False),)), ((first, second), SQUARE.rows),
@@ -539,7 +584,8 @@ class Splits(Cases):
         good = [("splits", (first, second), rest)]
         self.hold(takes_splits, SQUARE, good, [("splits", *some) for some in bad] + [
             ("splits", (first, second)), ("splits", (first, second), rest, ()), ("split", (first, second), rest),
-            ["splits", (first, second), rest], ("splits", rest, (first, second)), ("splits",), (), None, ("", (first, second), rest)])
+            ["splits", (first, second), rest], ("splits", rest, (first, second)), ("splits",), (), None,
+            ("", (first, second), rest)])
 
     def test_each_place_of_the_rest(self):
         parts = (((1, 2), R), ((2, 3), R))
@@ -553,7 +599,8 @@ class Splits(Cases):
 
     def test_rests(self):
         self.hold(takes_splits, ACROSS, [("splits", (), ACROSS.rows)], [
-            ("splits", (), rows(*["0 0 0 0 0"] * 5)), ("splits", (), scaled(ACROSS, 2).rows), ("splits", (), ACROSS.rows[::-1]),
+            ("splits", (), rows(*["0 0 0 0 0"] * 5)), ("splits", (), scaled(ACROSS, 2).rows),
+            ("splits", (), ACROSS.rows[::-1]),
             ("splits", (((1,), R),), ACROSS.rows)])
         self.hold(takes_splits, ONE, [("splits", (), rows("0"))], [
             ("splits", (), ()), ("splits", (), rows("1")), ("splits", (), ((0,),)), ("splits", (((0,), R),), rows("0")),

@@ -75,7 +75,8 @@ def symmetric(seed, many=40, most=5):
     yield []
     for told in (["0"], ["2"], ["-1"], ["0 0", "0 0"], ["0 1", "1 0"], ["0 -2", "-2 0"], ["1 1", "1 1"], ["1 2", "2 1"],
                  ["1 0", "0 -1"], ["1 1 0", "1 1 1", "0 1 0"], ["0 0 0", "0 0 1/2", "0 1/2 0"], ["0 1", "1 5"],
-                 ["1 0 0 0", "0 0 0 0", "0 0 0 -3", "0 0 -3 0"], ["0 0 0", "0 3 0", "0 0 0"], ["2 1 1", "1 0 1", "1 1 -1"]):
+                 ["1 0 0 0", "0 0 0 0", "0 0 0 -3", "0 0 -3 0"], ["0 0 0", "0 3 0", "0 0 0"],
+                 ["2 1 1", "1 0 1", "1 1 -1"]):
         yield [fractions_of(row(text)) for text in told]
     random = seeded(seed)
     for at in range(many):
@@ -243,7 +244,8 @@ class Spaces(unittest.TestCase):
         weights = fractions_of(squares)
         # The centre c has, for each point p, the same distance to it as to 0: twice the product of p and c is p p.
         left = [tuple(q(2 * weight * item) for weight, item in zip(weights, point)) for point in points]
-        right = tuple(q(sum((weight * item ** 2 for weight, item in zip(weights, point)), Fraction(0))) for point in points)
+        right = tuple(q(sum((weight * item ** 2 for weight, item in zip(weights, point)),
+                            Fraction(0))) for point in points)
         joined = [one + (number,) for one, number in zip(left, right)]
         if rank(joined, len(squares) + 1) > rank(left, len(squares)):
             self.assertIsNone(found)
@@ -292,7 +294,8 @@ class Spaces(unittest.TestCase):
         self.assertGreater(min(spheres.count(True), spheres.count(False)), 10)
 
     def test_others(self):
-        kinds = [self.check(m) for m in [*metrics(205, 5, 6), *metrics(206, 1), star([1, 1, 1, 2]), cycle([1] * 8), ACROSS]]
+        kinds = [self.check(m) for m in [*metrics(205, 5, 6), *metrics(206, 1), star([1, 1, 1, 2]), cycle([1] * 8),
+                                         ACROSS]]
         self.assertGreater(min(kinds.count(True), kinds.count(False)), 10)
 
     def test_metrics_stay_the_same(self):

@@ -63,6 +63,12 @@ FUNCTIONS = {
         "takes_tree": "(metric, paper)", "takes_ultra": "(metric, paper)", "takes_cuts": "(metric, paper)",
         "takes_euclid": "(metric, paper)", "takes_isometry": "(a, b, paper)", "takes_splits": "(metric, paper)",
     },
+    "sheet": {"read_line": "(line)"},
+    "replies": {"reply_to": "(names, line)", "defined": "(names, line)", "is_right": "(names, entry)"},
+    "log": {
+        "write_data": "(data)", "read_data": "(text)", "write_log": "(entries)", "read_log": "(text)",
+        "first_wrong": "(entries)",
+    },
 }
 CLASSES = {
     "errors": {
@@ -88,11 +94,19 @@ CLASSES = {
             "metric": "(self)", "numbered": "(self)",
         },
     },
+    "replies": {"Reply": {"__init__": "(self, kind, text='', data=())", "__eq__": "(self, other)"}},
+    "console": {
+        "Console": {
+            "__init__": "(self, *, most=300)", "__len__": "(self)", "__iter__": "(self)", "enter": "(self, line)",
+            "names": "(self)", "log": "(self)",
+        },
+    },
 }
 # The modules by the chapters of DOC.md. The errors stand before all of them.
 CHAPTERS = {
     "errors": 0, "ratio": 1, "linear": 1, "simplex": 1, "metric": 2, "build": 2, "points": 3, "isometry": 3, "ultra": 4,
     "tree": 4, "splits": 5, "cuts": 6, "euclid": 7, "span": 8, "papers": 9, "checker": 9,
+    "sheet": 10, "replies": 10, "log": 10, "console": 10,
 }
 
 

@@ -149,6 +149,9 @@ def class_complaints(node):
             found.append("L5 body")
         if isinstance(part, ast.FunctionDef) and part.name.startswith("__") and part.name not in SPECIAL:
             found.append("L5 method")
+        if isinstance(part, ast.FunctionDef) and part.name == "__iter__":
+            if not re.fullmatch(r"def __iter__\(self\):\n    return iter\(self[.]\w+\)", ast.unparse(part)):
+                found.append("L5 iteration")
     methods = [part.name for part in node.body if isinstance(part, ast.FunctionDef)]
     if len(methods) != len(set(methods)) or node.keywords or node.decorator_list:
         found.append("L5, L18 class")
@@ -178,6 +181,8 @@ def function_complaints(tree):
                 found.append("L28 __init__")
             if node.name in ("__str__", "__repr__", "__len__") and not isinstance(node.body[-1], ast.Return):
                 found.append("L28 return")
+            if node.name == "__len__" and not all(ast.unparse(part).startswith("return len(") for part in returns):
+                found.append("L28 __len__")
     return found
 
 
@@ -217,11 +222,16 @@ def name_complaints(tree, own_methods):
     bound = {node.id for node in ast.walk(tree) if isinstance(node, ast.Name) and isinstance(node.ctx, ast.Store)}
     bound |= {node.arg for node in ast.walk(tree) if isinstance(node, ast.arg)}
     bound |= {node.name for node in ast.walk(tree) if isinstance(node, (ast.FunctionDef, ast.ClassDef, ast.alias))}
+    bound |= {node.name for node in ast.walk(tree) if isinstance(node, ast.ExceptHandler) and node.name}
     if bound & set(vars(builtins)):
         found.append("L15 name of a builtin")
+    iterated = [part for node in ast.walk(tree) if isinstance(node, ast.FunctionDef) and node.name == "__iter__"
+                for part in ast.walk(node)]
     for node in ast.walk(tree):
         if isinstance(node, ast.Name) and isinstance(node.ctx, ast.Load):
-            if node.id == "_" or node.id not in bound | BUILTINS:
+            # The function iter stands in a method __iter__ alone, whose form is looked at with its class.
+            known = node.id == "iter" and any(node is part for part in iterated)
+            if node.id == "_" or node.id not in bound | BUILTINS and not known:
                 found.append(f"L8 {node.id}")
         if isinstance(node, ast.Call) and isinstance(node.func, ast.Attribute):
             word = node.func.attr
@@ -286,7 +296,10 @@ BAD = [
     "def f(a):\n    return sorted(a, word=1)\n",
     "class A:\n    def __str__(self):\n        if self:\n            return 'a'\n",
     "class A:\n    pass\n\n\ndef f(A):\n    return A\n", "def f(a):\n    return chr(a)\n",
-    "def f(a):\n    return map(int, a)\n", "def f(a):\n    return set(a)\n",
+    "def f(a):\n    return map(int, a)\n", "def f(a):\n    return set(a)\n", "def f(a):\n    return iter(a)\n",
+    "class A:\n    def __iter__(self):\n        return iter(self.rows())\n",
+    "class A:\n    def __iter__(self):\n        rows = iter(self.rows)\n        return rows\n",
+    "class A:\n    def __len__(self):\n        return self.n\n",
 ]
 
 

@@ -204,7 +204,8 @@ class Spoilt(unittest.TestCase):
             deep = (deep,)
         words = ("tree", "points", "levels", "cuts", "functional", "euclid", "vector", "isometric", "unlike", "sizes",
                  "splits")
-        values = OTHERS + [0, 1, -1, 10 ** 30, Ratio(1), SQUARE, [None], Tree(1, []), deep, [deep], ("tree", deep, deep)]
+        values = OTHERS + [0, 1, -1, 10 ** 30, Ratio(1), SQUARE, [None], Tree(1, []), deep, [deep],
+                           ("tree", deep, deep)]
         values += [(word,) * many for word in words for many in range(1, 5) if (word, many) not in (
             ("unlike", 1), ("sizes", 1))]
         values += [(word, *[deep] * many) for word in words for many in range(1, 5)]

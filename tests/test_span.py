@@ -268,7 +268,8 @@ class Vertices(unittest.TestCase):
 
     def test_five_points(self):
         counts = [self.check(m) for m in metrics(229, 4, 5) if m.n == 5]
-        counts += [self.check(m) for m in (cycle([1] * 5), complete(5, 2), cycle([1, 2, 3, 4, 5]), star([1, 2, 3, 4, 5]))]
+        counts += [self.check(m) for m in (cycle([1] * 5), complete(5, 2), cycle([1, 2, 3, 4, 5]),
+                                           star([1, 2, 3, 4, 5]))]
         self.assertGreater(max(counts), 11)
 
     def test_six_points(self):
